@@ -1,0 +1,1 @@
+"""Carriedends: threads whose ends are carried along one another."""
