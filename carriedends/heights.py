@@ -1,24 +1,14 @@
 """The measures and heights of lots."""
 
 from carriedends.errors import BadPlace
-from carriedends.lots import coat_lots, lots
+from carriedends.lots import lots_and_bundles, lying_in
 from carriedends.rests import measure, remainder
 
 
-def _lots_and_threads(web, coat):
-    """Return the lots by the threads looked at, and these: for the coat -1 all, else those of the coat.
-
-    Any other coat that the web does not have is refused by coat_lots.
-    """
-    if coat == -1:
-        return (lots(web), web.bundles)
-    return (coat_lots(web, coat), [bundle for bundle in web.bundles if bundle[3] == coat])
-
-
-def _climbed(lot, threads):
+def _climbed(lot, bundles):
     """Return a dict of heights that agree with enough of the threads to hang the lot together."""
     steps = {place: [] for place in lot}
-    for u, v, length, _, _ in threads:
+    for u, v, length, _, _ in bundles:
         steps[u].append((v, length))
         steps[v].append((u, -length))
     found = {lot[0]: 0}
@@ -32,13 +22,21 @@ def _climbed(lot, threads):
     return found
 
 
+def surveyed(wheel, lot, bundles):
+    """Return the measure of a lot in which these bundles lie, the sum of its ring sums, and its heights.
+
+    In a lot with one spare no ring sum but one can be other than 0, so their sum is that one.
+    """
+    found = _climbed(lot, bundles)
+    rings = [found[u] + length - found[v] for u, v, length, _, _ in bundles]
+    common = measure(wheel, tuple(rings))
+    return (common, sum(rings), tuple([remainder(found[place], common) for place in lot]))
+
+
 def heights(web, lot, *, coat=-1):
     """Return the measure and the heights of a lot, by all threads or by those of one coat alone."""
-    known, looked_at = _lots_and_threads(web, coat)
+    known, bundles = lots_and_bundles(web, coat)
     if lot not in known:
         raise BadPlace(0)
-    threads = [bundle for bundle in looked_at if bundle[0] in lot]
-    found = _climbed(lot, threads)
-    rings = [found[u] + length - found[v] for u, v, length, _, _ in threads]
-    common = measure(web.wheel, tuple(rings))
-    return (common, tuple([remainder(found[place], common) for place in lot]))
+    common, _, found = surveyed(web.wheel, lot, lying_in(lot, bundles))
+    return (common, found)

@@ -70,6 +70,16 @@ def bundled(counts):
     return tuple([(*thread, counts[thread]) for thread in sorted(counts)])
 
 
+def counted(bundles):
+    """Return a dict of counts by thread from bundles of which no two have the same thread."""
+    return {bundle[:4]: bundle[4] for bundle in bundles}
+
+
+def rebuilt(web, counts):
+    """Return the web that differs from this one in its threads alone."""
+    return Web(web.n, web.wheel, web.coats, web.rule, bundled(counts))
+
+
 def made_web(n, wheel, coats, rule, bundles):
     """Return the web that has these bundles, which may stand in any order and repeat threads."""
     check_frame(n, wheel, coats, rule)
@@ -124,4 +134,4 @@ def renamed(web, places):
     counts = {}
     for u, v, length, coat, count in web.bundles:
         counts[laid(places[u], places[v], length, coat, web.wheel)] = count
-    return Web(web.n, web.wheel, web.coats, web.rule, bundled(counts))
+    return rebuilt(web, counts)

@@ -10,15 +10,15 @@ def assert_refused(test, error, what, call, *args, **named):
     test.assertIs(type(caught.exception.what), type(what))
 
 
-def is_plain(value):
-    """Whether a value is built from tuples, numbers and texts alone."""
+def is_plain(value, nones):
+    """Whether a value is built from tuples, numbers and texts alone, and from None where it may be."""
     if type(value) is tuple:
-        return all(is_plain(part) for part in value)
-    return type(value) in (int, str)
+        return all(is_plain(part, nones) for part in value)
+    return type(value) in (int, str) or nones and value is None
 
 
-def assert_same(test, found, due):
-    """The value must be the one that is due, and be built from tuples, numbers and texts alone."""
+def assert_same(test, found, due, *, nones=False):
+    """The value must be the one that is due, and be built from tuples, numbers and texts (and None) alone."""
     test.assertEqual(found, due)
     test.assertIs(type(found), type(due))
-    test.assertTrue(is_plain(found), found)
+    test.assertTrue(is_plain(found, nones), found)

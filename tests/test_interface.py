@@ -13,6 +13,15 @@ FUNCTIONS = {
     "webs": ("made_web(n, wheel, coats, rule, bundles)", "handy(web)", "many(web, coat)", "renamed(web, places)"),
     "lots": ("lots(web)", "coat_lots(web, c)"),
     "heights": ("heights(web, lot, *, coat=-1)",),
+    "ledger": ("ledger(web)", "joined(one, other)"),
+    "deeds": ("back_of(wheel, deed)", "slides_of(run)", "turned(wheel, run)"),
+    "carrying": ("done(web, deed)",),
+    "runs": ("offers(web)", "stirs(web)", "walked(web, run)"),
+    "judged": ("run_right(web, run, goal)",),
+    "pairs": ("exchange_deeds(wheel, p, x, lx, a, y, ly, b, *, j=1)",),
+    "gathering": ("gather_run(web, lot)",),
+    "spares": ("walk_deeds(wheel, s, x, hx, cx, y, hy, cy, length, coat)",),
+    "rings": ("round_deed(wheel, s, z, l, c, x, hx, cx, length, coat, *, q=1)",),
 }
 
 
