@@ -79,6 +79,17 @@ class GatherTest(unittest.TestCase):
         bundles = tuple((place, place + 1, 3, 0, 5) for place in range(1, 19)) + ((0, 1, 3, 0, 5), (18, 19, 1, 1, 1))
         self.assert_gathers(made_web(20, 0, 2, "others", bundles), tuple(range(20)))
 
+    def test_others_where_a_third_thread_leads_onward(self):
+        # The pair is at 1, its threads lead to 2 and 3, the way to 0 leads by 5; lengths that look like places.
+        for lengths in ((0, 5, 0), (5, 0, 0), (5, 5, 5), (0, 1, 2)):
+            for coats in ((0, 0, 1, 0), (0, 1, 0, 0), (1, 0, 1, 1)):
+                bundles = tuple(
+                    (*ends, length, coat, 2)
+                    for ends, length, coat in zip(((0, 5), (1, 2), (1, 3), (1, 5)), (4, *lengths), coats)
+                )
+                web = made_web(6, 7, 2, "others", bundles)
+                self.assert_gathers(web, (0, 1, 2, 3, 5))
+
     def test_others_where_an_exchange_is_needed(self):
         # The thread 1 2 has the coat of all threads 0 1 and 0 2; that of the coat 1 leads to 3.
         bundles = ((0, 1, 1, 0, 2), (0, 2, 2, 0, 3), (0, 3, 3, 1, 1), (1, 2, 4, 0, 5))

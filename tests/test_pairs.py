@@ -47,6 +47,15 @@ class ExchangeTest(unittest.TestCase):
         for j in (1, 2, 10 ** 9):
             self.assertEqual(slides_of(exchange_deeds(7, 3, 0, 1, 2, 1, 5, 0, j=j)), 2 * j + 1)
 
+    def test_example_of_the_normal_form(self):
+        # [13]: 10 ** 8 threads change their places with the thread of coat 0.
+        web = made_web(3, 7, 2, "others", ((0, 1, 0, 0, 1), (0, 2, 0, 1, 1), (0, 2, 3, 1, 10 ** 8)))
+        run = exchange_deeds(7, 0, 2, 3, 1, 1, 0, 0, j=10 ** 8)
+        due = ((0, 1, 0, 1, 10 ** 8), (0, 2, 0, 1, 1), (0, 2, 3, 0, 1))
+        self.assertEqual(walked(web, run).bundles, due)
+        self.assertEqual(len(run), 3)
+        self.assertEqual(slides_of(run), 2 * 10 ** 8 + 1)
+
     def test_what_it_does(self):
         """B lies then as one of the j threads lay, the j threads lie as B lay, all else stays."""
         chance = random.Random(9)
