@@ -89,7 +89,8 @@ def _deeds_home(wheel, rule, s, x, thread, counts):
 
 def _next_deeds(wheel, rule, s, counts):
     """Return deeds that carry threads of one bundle to s, () if all threads lie at s."""
-    near = [place for place, onward in _next_places(s, counts).items() if onward == s]
+    nexts = _next_places(s, counts)
+    near = [place for place in nexts if nexts[place] == s]
     for thread in sorted(counts):
         if s not in thread[:2]:
             ends = [place for place in thread[:2] if place in near]
