@@ -35,6 +35,11 @@ METHODS = set("""
     isprintable add discard
 """.split())
 
+# Methods of own classes, called off objects.
+OWN_METHODS = set("""
+    keeper_at excess_of lying_at unlike_coats exchange swap_coats claim walk lengthen
+""".split())
+
 DOUBLE_UNDERSCORE = set("__init__ __eq__ __repr__ __str__ __len__ __enter__ __exit__ __call__ __iter__".split())
 
 BARRED_NAMES = set("register mro elements open input law version_info with_traceback add_note".split())
@@ -194,7 +199,7 @@ def _call_faults(node):
     """Calls of methods that are not listed (L25), and sorting in place (L25)."""
     if isinstance(node.func, ast.Attribute):
         above = node.func.value
-        if node.func.attr not in METHODS and not (isinstance(above, ast.Name) and above.id in ("self", "super")):
+        if node.func.attr not in METHODS | OWN_METHODS and not (isinstance(above, ast.Name) and above.id in ("self", "super")):
             yield ("L25", node.lineno)
     if _is_call_of(node, TAKES_A_LIST) and any(isinstance(given, ast.GeneratorExp) for given in node.args):
         yield ("L7", node.lineno)

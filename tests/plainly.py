@@ -1,5 +1,6 @@
 """Webs told a second time, plainly and slowly: as sorted tuples of single threads (u, v, length, coat), u < v."""
 
+import functools
 import itertools
 
 from carriedends.webs import made_web
@@ -63,8 +64,9 @@ def all_bags(n, wheel, coats, many):
     return list(itertools.combinations_with_replacement(kinds, many))
 
 
+@functools.lru_cache(maxsize=None)
 def classes(n, wheel, coats, rule, many):
-    """All bags, parted into the sets of those that can be led to one another."""
+    """All bags, parted into the sets of those that can be led to one another; nobody may change what is returned."""
     left = set(all_bags(n, wheel, coats, many))
     found = []
     while left:

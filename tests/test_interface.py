@@ -22,6 +22,14 @@ FUNCTIONS = {
     "gathering": ("gather_run(web, lot)",),
     "spares": ("walk_deeds(wheel, s, x, hx, cx, y, hy, cy, length, coat)",),
     "rings": ("round_deed(wheel, s, z, l, c, x, hx, cx, length, coat, *, q=1)",),
+    "normal": ("normal(web)",),
+    "normalrun": ("normal_run(web)", "run_between(one, other)"),
+    "yespapers": ("fixed_at(web, run)",),
+    "nopapers": ("parting(one, other)", "parting_right(one, other, paper)"),
+    "mending": ("mended(web, run, goal)",),
+    "connected": ("connected(b, counts, kinds)", "trees(b)", "one_ring(b)"),
+    "classsize": ("lot_size(free, wheel)", "class_size(web)"),
+    "howmany": ("lot_ledgers(b, many, M)", "ledgers(n, many, M)"),
 }
 
 
