@@ -97,14 +97,6 @@ def _is_coat(web, thing):
     return is_number(thing) and 0 <= thing < web.coats
 
 
-def _are_places(web, thing):
-    """Return whether thing is a tuple of at least one place, strictly ascending."""
-    if not isinstance(thing, tuple) or not thing or not are_numbers(thing, len(thing)):
-        return False
-    ascending = all([low < high for low, high in zip(thing, thing[1:])])
-    return ascending and thing[0] >= 0 and thing[-1] < web.n
-
-
 def _is_measure(wheel, thing):
     """Return whether heights may part webs by thing."""
     if not is_number(thing):
@@ -150,8 +142,9 @@ def _said_of_lot(web, lot, words, bundles, others):
 
 def _is_right(one, other, paper, coat):
     """Return whether a paper holds by the threads of a coat, or by all of them; it has no "own" any more."""
-    if len(paper) < 2 or not _are_places(one, paper[1]):
+    if len(paper) < 2:
         return False
+    # What is a lot of either web is a tuple of its places, strictly ascending.
     lot = paper[1]
     known, bundles = lots_and_bundles(one, coat)
     others_known, others = lots_and_bundles(other, coat)

@@ -150,12 +150,13 @@ def _level(star, row):
 
 
 def _deal(star, due):
-    """Give out coats: all threads are at their positions already, and only one position may have many of them."""
-    crowded = max([(_how_many_at(star, thread[:2]), thread[:2]) for thread in sorted(due)])[1]
+    """Give out coats, when all threads are at their positions already.
+
+    Only one position may have several threads: it has the right ones as soon as all others have.
+    """
     taken = []
     for thread in sorted(due):
-        if thread[:2] != crowded:
-            taken.append(star.claim(thread[:2], [thread[2]], taken))
+        taken.append(star.claim(thread[:2], [thread[2]], taken))
 
 
 def settled(wheel, rule, row, bundles):

@@ -30,6 +30,17 @@ FUNCTIONS = {
     "connected": ("connected(b, counts, kinds)", "trees(b)", "one_ring(b)"),
     "classsize": ("lot_size(free, wheel)", "class_size(web)"),
     "howmany": ("lot_ledgers(b, many, M)", "ledgers(n, many, M)"),
+    "apart": ("apart(one, other)",),
+    "balls": ("balls(web)",),
+    "nearest": ("fewest(one, other)", "nearest_run(one, other)", "gather_count(web, lot)"),
+    "cheapest": ("cheapest(one, other, prices)",),
+    "patches": ("made_patches(n, k, bundles)", "patch_handy(patches)"),
+    "patchlots": ("patch_lots(patches)", "patch_ledger(patches)", "patch_joined(one, other)"),
+    "patchdeeds": (
+        "patch_done(patches, deed)", "patch_offers(patches)", "patch_walked(patches, run)",
+        "patch_run_right(patches, run, goal)", "patch_turned(run)", "patch_slides(run)",
+    ),
+    "patchform": ("patch_normal(patches)",),
 }
 
 
@@ -45,11 +56,13 @@ class InterfaceTest(unittest.TestCase):
                     self.assertEqual(function.__module__, module.__name__)
                     self.assertEqual(name + str(inspect.signature(function)), call)
 
-    def test_web_is_a_class_that_compares_by_itself(self):
-        module = importlib.import_module("carriedends.webs")
-        self.assertTrue(inspect.isclass(module.Web))
-        self.assertEqual(module.Web.__module__, module.__name__)
-        self.assertIn("__eq__", vars(module.Web))
+    def test_classes_that_compare_by_themselves(self):
+        for file, name in (("webs", "Web"), ("patches", "Patches")):
+            module = importlib.import_module("carriedends." + file)
+            found = getattr(module, name)
+            self.assertTrue(inspect.isclass(found))
+            self.assertEqual(found.__module__, module.__name__)
+            self.assertIn("__eq__", vars(found))
 
 
 if __name__ == "__main__":
