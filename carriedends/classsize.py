@@ -37,9 +37,12 @@ def _one_spare_size(b, counts, ring, wheel, lifts):
 
 def _many_spares_size(b, counts, common, wheel):
     """Return the size of a row with two and more spares, for a wheel >= 1."""
+    q = wheel // common
     total = 0
-    for d in divisors(wheel // common):
-        total += mu(d) * power(d, b - 1) * connected(b, counts, wheel // common // d)
+    for d in divisors(q):
+        sign = mu(d)
+        if sign:
+            total += sign * power(d, b - 1) * connected(b, counts, q // d)
     return total
 
 

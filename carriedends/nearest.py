@@ -1,21 +1,18 @@
 """Fewest slides, and runs of fewest slides."""
 
 from carriedends.errors import BadPlace
-from carriedends.ledger import check_alike
 from carriedends.lots import lots, lying_in
 from carriedends.searching import check_pair, spread
 
 
 def fewest(one, other):
     """Return the least number of slides that lead from one web to another."""
-    check_alike(one, other)
     check_pair(one, other)
     return spread(one)[other.bundles][0]
 
 
 def nearest_run(one, other):
     """Return a run of fewest slides from one web to another."""
-    check_alike(one, other)
     check_pair(one, other)
     found = spread(one)
     bundles = other.bundles

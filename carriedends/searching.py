@@ -28,7 +28,7 @@ def check_searched(web):
 
 
 def check_pair(one, other):
-    """Raise NotJoined or TooMany unless two alike webs are in one class, which is small enough to be searched."""
+    """Raise Unlike, NotJoined or TooMany unless two webs are in one class, which is small enough to be searched."""
     if not joined(one, other):
         raise NotJoined(0)
     check_searched(one)
