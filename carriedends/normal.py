@@ -30,7 +30,8 @@ def _dealt(slots, counts):
             if given:
                 left[coat] -= given
                 missing -= given
-                dealt[(*position, coat)] = dealt.get((*position, coat), 0) + given
+                thread = (*position, coat)
+                dealt[thread] = dealt.get(thread, 0) + given
     return dealt
 
 
@@ -49,7 +50,8 @@ def web_of_ledger(n, wheel, coats, rule, table):
                 counts[bundle[:4]] = bundle[4]
         elif row[0] == "free":
             for thread, count in row_threads(wheel, row).items():
-                counts[(row[1][0], *thread)] = count
+                laid_thread = (row[1][0], *thread)
+                counts[laid_thread] = count
     return Web(n, wheel, coats, rule, bundled(counts))
 
 

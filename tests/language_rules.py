@@ -221,6 +221,22 @@ def _is_lasting(node):
     return any(isinstance(side, ast.Constant) and side.value in (None, True, False) for side in sides)
 
 
+def _star_faults(tree):
+    """Stars in the brackets of a subscript, in sets, and before more than a name or an attribute in calls (L7)."""
+    for node in ast.walk(tree):
+        if isinstance(node, ast.Subscript):
+            starred = [inner for inner in ast.walk(node.slice) if isinstance(inner, ast.Starred)]
+        elif isinstance(node, ast.Set):
+            starred = [inner for inner in node.elts if isinstance(inner, ast.Starred)]
+        elif isinstance(node, ast.Call):
+            starred = [inner for inner in node.args if isinstance(inner, ast.Starred)]
+            starred = [inner for inner in starred if not isinstance(inner.value, (ast.Name, ast.Attribute))]
+        else:
+            starred = []
+        for inner in starred:
+            yield ("L7", inner.lineno)
+
+
 def _node_faults(tree):
     """Statements and expressions that are not let."""
     for node in ast.walk(tree):
@@ -249,6 +265,6 @@ def faults(source):
     """The rules that a file breaks, as a sorted list of pairs (rule, line)."""
     tree = ast.parse(source)
     found = list(_text_faults(source)) + list(_word_faults(source, tree))
-    for look in (_import_faults, _module_faults, _name_faults, _function_faults, _node_faults):
+    for look in (_import_faults, _module_faults, _name_faults, _function_faults, _star_faults, _node_faults):
         found += list(look(tree))
     return sorted(set(found))

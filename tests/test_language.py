@@ -68,6 +68,7 @@ class LookupTest(unittest.TestCase):
 
     def test_good_text(self):
         self.assertEqual(faults('"""Words, type among them."""\n\n\ndef go(x):\n    return x + 1  # no type\n'), [])
+        self.assertEqual(faults("def go(x, y):\n    key = (*y, 1)\n    return [*x, x[key], go(*x, y)]\n"), [])
 
     def test_each_rule(self):
         long_function = "def go(x):\n" + "    x += 1\n" * 40
@@ -88,6 +89,12 @@ class LookupTest(unittest.TestCase):
             ("L7", "def go(x):\n    return x / 2\n"),
             ("L7", "def go(x):\n    return x * 1.5\n"),
             ("L7", "def go(x):\n    return any(y for y in x)\n"),
+            ("L7", "def go(x, y):\n    return x[(*y, 1)]\n"),
+            ("L7", "def go(x, y):\n    x[(*y, 1)] = 2\n"),
+            ("L7", "def go(x, y):\n    x[0, *y] += 2\n"),
+            ("L7", "def go(x, y):\n    del x[[*y][0]]\n"),
+            ("L7", "def go(x, y):\n    return x in {*y, 1}\n"),
+            ("L7", "def go(x):\n    return go(*x[1:])\n"),
             ("L8", "def go(x):\n    return hash(x)\n"),
             ("L8", "def go(x):\n    print(x)\n"),
             ("L10", long_function),
