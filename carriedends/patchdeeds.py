@@ -2,7 +2,7 @@
 
 from carriedends.errors import BadDeed, BadRow, TooMany
 from carriedends.forms import are_numbers, is_number
-from carriedends.patches import Patches, are_corners, ascending
+from carriedends.patches import Patches, are_corners, ascending, counted_patches
 from carriedends.runs import MOST_DEEDS
 
 
@@ -35,35 +35,29 @@ def _fault_of(patches, counts, deed):
     return None
 
 
-def _corners_after(deed):
-    """Return the corners that the carried patches have after a deed."""
-    corners, v, w = deed[:3]
+def replaced(corners, v, w):
+    """Return the corners in which w stands in the place of v."""
     return tuple(sorted([w if corner == v else corner for corner in corners]))
 
 
-def _carry_out(counts, deed):
+def carry_corner(counts, deed):
     """Change counts as a granted deed does."""
-    before, j = deed[0], deed[4]
+    before, v, w, _, j = deed
     if counts[before] == j:
         del counts[before]
     else:
         counts[before] -= j
-    after = _corners_after(deed)
+    after = replaced(before, v, w)
     counts[after] = counts.get(after, 0) + j
-
-
-def _counted(patches):
-    """Return a dict of counts by patch."""
-    return {corners: count for corners, count in patches.bundles}
 
 
 def patch_done(patches, deed):
     """Return the bag after a deed."""
-    counts = _counted(patches)
+    counts = counted_patches(patches.bundles)
     fault = _fault_of(patches, counts, deed)
     if fault is not None:
         raise BadDeed(fault)
-    _carry_out(counts, deed)
+    carry_corner(counts, deed)
     return Patches(patches.n, patches.k, ascending(counts))
 
 
@@ -83,7 +77,7 @@ def _carried_out(patches, counts, run):
     for index, deed in enumerate(run):
         if _fault_of(patches, counts, deed) is not None:
             return index
-        _carry_out(counts, deed)
+        carry_corner(counts, deed)
     return None
 
 
@@ -91,7 +85,7 @@ def patch_walked(patches, run):
     """Return the bag after a run."""
     if len(run) > MOST_DEEDS:
         raise TooMany(len(run))
-    counts = _counted(patches)
+    counts = counted_patches(patches.bundles)
     index = _carried_out(patches, counts, run)
     if index is not None:
         raise BadRow(index)
@@ -102,7 +96,7 @@ def patch_run_right(patches, run, goal):
     """Return whether run, which may be any value, is a run that leads from a bag to the goal."""
     if not isinstance(run, tuple) or len(run) > MOST_DEEDS:
         return False
-    counts = _counted(patches)
+    counts = counted_patches(patches.bundles)
     if _carried_out(patches, counts, run) is not None:
         return False
     return Patches(patches.n, patches.k, ascending(counts)) == goal
@@ -110,7 +104,7 @@ def patch_run_right(patches, run, goal):
 
 def patch_turned(run):
     """Return the run that takes a granted run back."""
-    return tuple([(_corners_after(deed), deed[2], deed[1], deed[3], deed[4]) for deed in reversed(run)])
+    return tuple([(replaced(corners, v, w), w, v, rail, j) for corners, v, w, rail, j in reversed(run)])
 
 
 def patch_slides(run):

@@ -44,6 +44,11 @@ def ascending(counts):
     return tuple([(corners, counts[corners]) for corners in sorted(counts)])
 
 
+def counted_patches(bundles):
+    """Return a dict of counts by patch from bundles of which no two have the same corners."""
+    return {corners: count for corners, count in bundles}
+
+
 def made_patches(n, k, bundles):
     """Return the bag that has these bundles, which may stand in any order and repeat patches."""
     if not 1 <= n <= MOST_PATCH_PLACES:

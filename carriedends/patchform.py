@@ -4,17 +4,23 @@ from carriedends.patches import Patches, ascending
 from carriedends.patchlots import patch_lots, patches_in
 
 
-def _lot_form(lot, k, total):
-    """Return a dict of counts of the patches of a lot of at least two places in normal form."""
+def keepers(lot, k):
+    """Return the patches that keep the places of a lot of at least two places in normal form, in order."""
     s, others = lot[0], lot[1:]
-    counts = {}
+    found = []
     for start in range(0, len(others), k - 1):
         kept = others[start:start + k - 1]
         # The last patch that keeps places may lack some: it gets the least ones, which the first patch keeps.
-        corners = tuple(sorted([s, *kept, *others[:k - 1 - len(kept)]]))
-        counts[corners] = 1
+        found.append(tuple(sorted([s, *kept, *others[:k - 1 - len(kept)]])))
+    return found
+
+
+def _lot_form(lot, k, total):
+    """Return a dict of counts of the patches of a lot of at least two places in normal form."""
+    found = keepers(lot, k)
+    counts = {corners: 1 for corners in found}
     # All patches that keep nothing are like the first one.
-    counts[lot[:k]] += total - len(counts)
+    counts[found[0]] += total - len(counts)
     return counts
 
 

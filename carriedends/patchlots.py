@@ -10,9 +10,14 @@ def patch_lots(patches):
     return hanging(patches.n, ties)
 
 
+def bundles_in(lot, bundles):
+    """Return the bundles of the patches that lie in a lot."""
+    return tuple([(corners, count) for corners, count in bundles if corners[0] in lot])
+
+
 def patches_in(lot, bundles):
     """Return how many patches lie in a lot, equal ones counted each."""
-    return sum([count for corners, count in bundles if corners[0] in lot])
+    return sum([count for _, count in bundles_in(lot, bundles)])
 
 
 def patch_ledger(patches):

@@ -37,7 +37,7 @@ METHODS = set("""
 
 # Methods of own classes, called off objects.
 OWN_METHODS = set("""
-    keeper_at excess_of lying_at unlike_coats exchange swap_coats claim walk lengthen
+    keeper_at excess_of lying_at unlike_coats exchange swap_coats claim walk lengthen wanted
 """.split())
 
 DOUBLE_UNDERSCORE = set("__init__ __eq__ __repr__ __str__ __len__ __enter__ __exit__ __call__ __iter__".split())

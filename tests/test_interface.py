@@ -41,6 +41,20 @@ FUNCTIONS = {
         "patch_run_right(patches, run, goal)", "patch_turned(run)", "patch_slides(run)",
     ),
     "patchform": ("patch_normal(patches)",),
+    "patchrun": (
+        "patch_gather_count(patches, lot)", "patch_gather_run(patches, lot)", "patch_normal_run(patches)",
+        "patch_run_between(one, other)",
+    ),
+    "patchcount": ("connected_patches(b, k, many)", "patch_class_size(patches)"),
+    "arrows": ("made_arrows(n, bundles)", "arrow_handy(arrows)"),
+    "arrowlots": ("arrow_lots(arrows)", "arrow_ledger(arrows)", "arrow_joined(one, other)"),
+    "arrowdeeds": (
+        "arrow_done(arrows, deed)", "arrow_offers(arrows)", "arrow_walked(arrows, run)",
+        "arrow_run_right(arrows, run, goal)", "arrow_turned(run)", "arrow_slides(run)",
+    ),
+    "arrowwalks": ("homes_run(arrows, lot)", "spare_run(arrows, u, v, w)", "swap_run(arrows, a, y, b, z)"),
+    "arrowform": ("arrow_normal(arrows)", "arrow_normal_run(arrows)", "arrow_run_between(one, other)"),
+    "arrowcount": ("connected_arrows(outs)", "arrow_class_size(arrows)"),
 }
 
 
@@ -57,7 +71,7 @@ class InterfaceTest(unittest.TestCase):
                     self.assertEqual(name + str(inspect.signature(function)), call)
 
     def test_classes_that_compare_by_themselves(self):
-        for file, name in (("webs", "Web"), ("patches", "Patches")):
+        for file, name in (("webs", "Web"), ("patches", "Patches"), ("arrows", "Arrows")):
             module = importlib.import_module("carriedends." + file)
             found = getattr(module, name)
             self.assertTrue(inspect.isclass(found))
