@@ -50,14 +50,18 @@ def _joined_up(places, count, rows, found):
     return total
 
 
+def ledger_numbers(n, many, M):
+    """Return a list that has for 0 to n places a list of how many ledgers there are, by 0 to many threads."""
+    rows = [[_rows_of(b, count, M) for count in range(many + 1)] for b in range(1, n + 1)]
+    found = [[1 if count == 0 else 0 for count in range(many + 1)]]
+    for places in range(1, n + 1):
+        found.append([_joined_up(places, count, rows, found) for count in range(many + 1)])
+    return found
+
+
 def ledgers(n, many, M):
     """Return how many ledgers n places with so many threads of one coat have under "all"."""
     if not 0 <= n <= MOST_PLACES:
         raise BadSize(n)
     _check_counts(many, M)
-    rows = [[_rows_of(b, count, M) for count in range(many + 1)] for b in range(1, n + 1)]
-    # found[k] has the numbers for k places, by the number of threads.
-    found = [[1 if count == 0 else 0 for count in range(many + 1)]]
-    for places in range(1, n + 1):
-        found.append([_joined_up(places, count, rows, found) for count in range(many + 1)])
-    return found[n][many]
+    return ledger_numbers(n, many, M)[n][many]

@@ -31,7 +31,7 @@ def are_corners(thing, n, k):
     return thing[0] >= 0 and thing[-1] < n and all([low < high for low, high in zip(thing, thing[1:])])
 
 
-def _is_bundle(thing, n, k):
+def is_patch_bundle(thing, n, k):
     """Return whether thing is a bundle that can be handed in, its count looked at alone."""
     if not isinstance(thing, tuple) or len(thing) != 2:
         return False
@@ -60,7 +60,7 @@ def made_patches(n, k, bundles):
     counts = {}
     total = 0
     for index, bundle in enumerate(bundles):
-        if not _is_bundle(bundle, n, k):
+        if not is_patch_bundle(bundle, n, k):
             raise BadBundle(index)
         corners, count = bundle
         total += count

@@ -1,6 +1,6 @@
 """Webs: bags of threads between places."""
 
-from carriedends.errors import BadBundle, BadCoats, BadPlace, BadRule, BadSize, TooMany
+from carriedends.errors import BadBundle, BadCoats, BadPlace, BadRule, BadSize, Refused, TooMany
 from carriedends.forms import are_numbers
 from carriedends.rests import check_wheel
 from carriedends.threads import laid
@@ -45,6 +45,15 @@ def check_frame(n, wheel, coats, rule):
         raise BadRule(rule)
 
 
+def is_frame(n, wheel, coats, rule):
+    """Return whether a web may have these places, wheel, coats and rule."""
+    try:
+        check_frame(n, wheel, coats, rule)
+    except Refused:
+        return False
+    return True
+
+
 def _is_handed_length(length, wheel):
     """Return whether a thread that is handed in may have this length."""
     if wheel == 0:
@@ -78,6 +87,11 @@ def counted(bundles):
 def rebuilt(web, counts):
     """Return the web that differs from this one in its threads alone."""
     return Web(web.n, web.wheel, web.coats, web.rule, bundled(counts))
+
+
+def too_much(counts):
+    """Return whether there are more bundles or threads than can be handed in, from a dict of counts by thread."""
+    return len(counts) > MOST_BUNDLES or sum(counts.values()) > MOST_THREADS
 
 
 def made_web(n, wheel, coats, rule, bundles):

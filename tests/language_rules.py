@@ -38,6 +38,7 @@ METHODS = set("""
 # Methods of own classes, called off objects.
 OWN_METHODS = set("""
     keeper_at excess_of lying_at unlike_coats exchange swap_coats claim walk lengthen wanted
+    web marked made record carry around lay lift mark undo redo
 """.split())
 
 DOUBLE_UNDERSCORE = set("__init__ __eq__ __repr__ __str__ __len__ __enter__ __exit__ __call__ __iter__".split())
@@ -221,16 +222,26 @@ def _is_lasting(node):
     return any(isinstance(side, ast.Constant) and side.value in (None, True, False) for side in sides)
 
 
+def _is_bare(node):
+    """Whether a value that stands in a call behind a star is a name, an attribute, a literal, or made of these."""
+    if isinstance(node, ast.Starred):
+        return isinstance(node.value, (ast.Name, ast.Attribute))
+    if isinstance(node, (ast.List, ast.Tuple)):
+        return all(_is_bare(part) for part in node.elts)
+    return isinstance(node, (ast.Name, ast.Attribute, ast.Constant))
+
+
 def _star_faults(tree):
-    """Stars in the brackets of a subscript, in sets, and before more than a name or an attribute in calls (L7)."""
+    """Stars in the brackets of a subscript, in sets, and in calls with more than plain values behind them (L7)."""
     for node in ast.walk(tree):
         if isinstance(node, ast.Subscript):
             starred = [inner for inner in ast.walk(node.slice) if isinstance(inner, ast.Starred)]
         elif isinstance(node, ast.Set):
             starred = [inner for inner in node.elts if isinstance(inner, ast.Starred)]
         elif isinstance(node, ast.Call):
-            starred = [inner for inner in node.args if isinstance(inner, ast.Starred)]
-            starred = [inner for inner in starred if not isinstance(inner.value, (ast.Name, ast.Attribute))]
+            stars = [index for index, inner in enumerate(node.args) if isinstance(inner, ast.Starred)]
+            behind = node.args[stars[0]:] if stars else []
+            starred = [inner for inner in behind if not _is_bare(inner)]
         else:
             starred = []
         for inner in starred:

@@ -55,7 +55,22 @@ FUNCTIONS = {
     "arrowwalks": ("homes_run(arrows, lot)", "spare_run(arrows, u, v, w)", "swap_run(arrows, a, y, b, z)"),
     "arrowform": ("arrow_normal(arrows)", "arrow_normal_run(arrows)", "arrow_run_between(one, other)"),
     "arrowcount": ("connected_arrows(outs)", "arrow_class_size(arrows)"),
+    "ledgerforms": ("is_ledger(n, wheel, coats, rule, thing)", "written(n, wheel, coats, rule, thing)"),
+    "ledgerlist": ("all_ledgers(n, many, M)",),
+    "webtext": ("text_of_web(web)", "web_of(text)"),
+    "runtext": ("text_of_run(run)", "run_of(text)"),
+    "bagtext": ("text_of_patches(patches)", "text_of_arrows(arrows)", "patches_of(text)", "arrows_of(text)"),
+    "ledgertext": ("text_of_ledger(rule, ledger)", "ledger_of(rule, text)"),
+    "floorasks": ("can_go_home(floor)", "way_home(floor)", "why_not(floor)", "kin(floor)"),
+    "saysfloor": ("answer(floor, row)", "asked(floor, row)"),
 }
+
+# The methods of the class Floor, with their arguments but self.
+FLOOR = (
+    "web()", "marked()", "made()", "record()", "carry(u, v, length, coat, w, rail, railcoat, *, j=1)",
+    "around(u, v, length, coat, w, out, outcoat, back, backcoat, *, j=1, q=1)", "lay(u, v, length, coat, count)",
+    "lift(u, v, length, coat, count)", "mark()", "undo()", "redo()",
+)
 
 
 class InterfaceTest(unittest.TestCase):
@@ -77,6 +92,25 @@ class InterfaceTest(unittest.TestCase):
             self.assertTrue(inspect.isclass(found))
             self.assertEqual(found.__module__, module.__name__)
             self.assertIn("__eq__", vars(found))
+
+    def test_floor(self):
+        found = importlib.import_module("carriedends.floor").Floor
+        self.assertEqual(found.__module__, "carriedends.floor")
+        self.assertEqual(str(inspect.signature(found)), "(web)")
+        for call in FLOOR:
+            name = call.split("(")[0]
+            self.assertIn(name, vars(found))
+            self.assertEqual(name + str(inspect.signature(vars(found)[name])).replace("(self, ", "(").replace("(self)", "()"), call)
+
+    def test_attributes(self):
+        # They are set on each object when it is created.
+        for file, name, attributes in (
+            ("webs", "Web", ("n", "wheel", "coats", "rule", "bundles")), ("patches", "Patches", ("n", "k", "bundles")),
+            ("arrows", "Arrows", ("n", "bundles")),
+        ):
+            found = getattr(importlib.import_module("carriedends." + file), name)
+            made = found(*attributes)
+            self.assertEqual([getattr(made, attribute) for attribute in attributes], list(attributes))
 
 
 if __name__ == "__main__":

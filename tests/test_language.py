@@ -95,6 +95,7 @@ class LookupTest(unittest.TestCase):
             ("L7", "def go(x, y):\n    del x[[*y][0]]\n"),
             ("L7", "def go(x, y):\n    return x in {*y, 1}\n"),
             ("L7", "def go(x):\n    return go(*x[1:])\n"),
+            ("L7", "def go(x):\n    return go(*x, x[4])\n"),
             ("L8", "def go(x):\n    return hash(x)\n"),
             ("L8", "def go(x):\n    print(x)\n"),
             ("L10", long_function),

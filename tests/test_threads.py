@@ -23,6 +23,10 @@ class LaidTest(unittest.TestCase):
         assert_same(self, laid(1, 0, 0, 1, 0), (0, 1, 0, 1))
         assert_same(self, laid(1, 0, 10 ** 50, 1, 0), (0, 1, -10 ** 50, 1))
 
+    def test_nothing_is_checked(self):
+        assert_same(self, laid(1, 0, 3, 0, 10 ** 6 + 1), (0, 1, 10 ** 6 - 2, 0))
+        assert_same(self, laid(10 ** 9, 7, 3, 99, 5), (7, 10 ** 9, 2, 99))
+
     def test_by_name(self):
         self.assertEqual(laid(wheel=7, coat=1, length=3, v=0, u=1), (0, 1, 4, 1))
 
