@@ -3,7 +3,7 @@
 from math import factorial
 
 from carriedends.choosing import MOST_CHOSEN, MOST_OF_MANY_KINDS, choose
-from carriedends.connected import connected, one_ring, trees
+from carriedends.connected import hanging_bags, one_ring, trees
 from carriedends.errors import TooMany
 from carriedends.ledger import ledger
 from carriedends.powers import divisors, mu, power
@@ -42,7 +42,7 @@ def _many_spares_size(b, counts, common, wheel):
     for d in divisors(q):
         sign = mu(d)
         if sign:
-            total += sign * power(d, b - 1) * connected(b, counts, q // d)
+            total += sign * power(d, b - 1) * hanging_bags(b, counts, q // d)
     return total
 
 
@@ -61,7 +61,7 @@ def lot_size(free, wheel):
     if max(counts) > MOST_OF_MANY_KINDS and kinds > MOST_CHOSEN:
         raise TooMany(kinds)
     if wheel == 0:
-        return connected(b, counts, 1)
+        return hanging_bags(b, counts, 1)
     return _many_spares_size(b, counts, common, wheel)
 
 

@@ -34,14 +34,12 @@ def _check_kinds(b, counts, kinds):
         raise BadCount(kinds)
 
 
-def connected(b, counts, kinds):
+def hanging_bags(b, counts, kinds):
     """Return the number of bags with so many threads of each coat that hang b places together.
 
-    Between each two places a thread can have so many kinds of lengths.
+    Between each two places a thread can have so many kinds of lengths. The bounds of what `connected` is handed are not
+    asked for here: ledgers may have rows beyond them.
     """
-    _check_size(b)
-    _check_counts(counts)
-    _check_kinds(b, counts, kinds)
     total = 0
     for parts, ways in partings(b):
         pairs = sum([choose(part, 2) for part in parts])
@@ -50,6 +48,14 @@ def connected(b, counts, kinds):
             term *= bags(kinds * pairs, count)
         total += term
     return total
+
+
+def connected(b, counts, kinds):
+    """Return the number of bags with so many threads of each coat that hang b places together."""
+    _check_size(b)
+    _check_counts(counts)
+    _check_kinds(b, counts, kinds)
+    return hanging_bags(b, counts, kinds)
 
 
 def trees(b):

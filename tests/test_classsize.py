@@ -7,9 +7,9 @@ import unittest
 from carriedends.choosing import bags
 from carriedends.classsize import class_size, lot_size
 from carriedends.connected import connected
-from carriedends.errors import TooMany
+from carriedends.errors import BadCount, TooMany
 from carriedends.ledger import ledger
-from carriedends.webs import made_web
+from carriedends.webs import Web, made_web
 from tests.helping import assert_refused
 from tests.plainly import classes, reached, webbed
 
@@ -164,6 +164,32 @@ class LotSizeTest(unittest.TestCase):
             sign * k ** 2 * connected(3, (4,), 6 // k) for k, sign in ((1, 1), (2, -1), (3, -1), (6, 1))
         ))
         self.assertIs(lot_size(row(3, (4,), 2, 5, None), 0), None)
+
+    def test_rows_beyond_what_can_be_handed_in(self):
+        # [30] sets no bounds to the counts of a row: three places, the threads lie at two or three of the pairs.
+        for count in (10 ** 9, 10 ** 9 + 1, 10 ** 10, 10 ** 50):
+            due = math.comb(count + 2, 2) - 3
+            self.assertEqual(lot_size(row(3, (count,), count - 2, 1, None), 1), due)
+            self.assertEqual(lot_size(row(3, (count,), count - 2, 0, None), 0), due)
+            self.assertEqual(lot_size(row(3, (2, count), count, 0, None), 0), 6 * math.comb(count + 2, 2) - 3)
+            self.assertEqual(lot_size(row(3, (0, 0, 0, count), count - 2, 7, None), 7), due)
+            # With two lengths for each of the pairs, less those that have one measure more.
+            two = bags(6, count) - 3 * bags(2, count) - 4 * due
+            self.assertEqual(lot_size(row(3, (count,), count - 2, 1, None), 2), two)
+        assert_refused(self, TooMany, 402, lot_size, row(3, (10 ** 10,), 10 ** 10 - 2, 1, None), 134)
+        self.assertIs(lot_size(row(3, (10 ** 10,), 10 ** 10 - 2, 4, None), 0), None)
+
+    def test_webs_beyond_what_can_be_handed_in(self):
+        for count in (10 ** 9, 10 ** 10):
+            for rule, wheel in (("all", 1), ("all", 0), ("own", 0)):
+                web = Web(3, wheel, 1, rule, ((0, 1, 0, 0, count - 1), (1, 2, 0, 0, 1)))
+                self.assertEqual(class_size(web), math.comb(count + 2, 2) - 3)
+            web = Web(3, 0, 2, "others", ((0, 1, 0, 0, count), (1, 2, 0, 1, 2)))
+            self.assertEqual(class_size(web), 6 * math.comb(count + 2, 2) - 3)
+            # The number of bags itself goes on refusing such counts.
+            self.assertEqual(connected(3, (10 ** 9,), 1), math.comb(10 ** 9 + 2, 2) - 3)
+        assert_refused(self, BadCount, 0, connected, 3, (10 ** 9 + 1,), 1)
+        assert_refused(self, BadCount, 1, connected, 3, (2, 10 ** 9 + 1), 1)
 
 
 if __name__ == "__main__":
