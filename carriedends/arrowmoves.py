@@ -85,18 +85,9 @@ def _to_owner(s, v, o, j, counts):
     return ((s, v, x, j), *_to_owner(s, x, o, j, counts))
 
 
-def _middle(s, v, w, counts):
-    """Return another owner than s, of v and w one if there is one."""
-    owners = [owner for owner, _ in sorted(counts) if owner != s]
-    for place in (v, w):
-        if place in owners:
-            return place
-    return owners[0]
-
-
 def _led_elsewhere(s, v, w, j, counts):
     """Return deeds after which j arrows from s to v lead to w; if v is a sink, another arrow leads to it, too."""
-    o = _middle(s, v, w, counts)
+    o = [owner for owner, _ in sorted(counts) if owner != s][0]
     there = () if o == v else _to_owner(s, v, o, j, counts)
     # From the owner on it is the way that would lead from w to the owner, taken back.
     onward = () if o == w else arrow_turned(_to_owner(s, w, o, j, _moved(counts, s, v, w, j)))

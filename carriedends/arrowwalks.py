@@ -37,8 +37,8 @@ def _gathered_lot(arrows, owner):
 
 
 def _can_leave(s, owners, u, v, counts):
-    """Return whether an arrow from u to v may be led elsewhere."""
-    if (u, v) not in counts or (u != s and v == s):
+    """Return whether there is an arrow from u to v that may be led elsewhere."""
+    if (u, v) not in counts or v == s:
         return False
     others = sum([counts[arrow] for arrow in counts if arrow[1] == v]) - 1
     return v in owners or others > 0

@@ -71,7 +71,7 @@ def _read_free(words):
         return None
     lot, counts = read_numbers(words[0].split(","), ()), read_numbers(words[1].split(","), ())
     spares, common = read_number(words[2]), read_number(words[3])
-    ring = None if words[4] == "-" else read_number(words[4])
+    ring = read_number(words[4])
     found = [read_length(word) for word in words[5].split(",")]
     if None in (lot, counts, spares, common) or None in found or (ring is None and words[4] != "-"):
         return None

@@ -114,6 +114,9 @@ class ClassSizeTest(unittest.TestCase):
                 else:
                     assert_refused(self, TooMany, due, class_size, web)
                     assert_refused(self, TooMany, due, lot_size, ledger(web)[0], wheel)
+        # Five places: K is q * 10, and 400 is not too many.
+        self.assertGreater(lot_size(row(5, (61,), 57, 1, None), 40), 0)
+        assert_refused(self, TooMany, 410, lot_size, row(5, (61,), 57, 1, None), 41)
         # q is what counts, not the wheel.
         web = made_web(3, 1000, 1, "all", ((0, 1, 0, 0, 100), (0, 1, 10, 0, 1), (1, 2, 0, 0, 1)))
         self.assertGreater(class_size(web), 0)

@@ -75,6 +75,7 @@ class ConnectedTest(unittest.TestCase):
 
     def test_bad_counts(self):
         assert_refused(self, BadCount, 0, connected, 3, (), 0)
+        assert_refused(self, BadCount, 0, connected, 3, (), 7)
         assert_refused(self, BadCount, 5, connected, 3, (-1,) * 5, 0)
         assert_refused(self, BadCount, 0, connected, 3, (-1, -1), 0)
         assert_refused(self, BadCount, 1, connected, 3, (0, 10 ** 9 + 1, -1), 0)

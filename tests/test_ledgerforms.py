@@ -189,6 +189,9 @@ class LedgerFormsTest(unittest.TestCase):
             thing((0, 1, 0, 0, 1, 1)), thing((0, 1, 0, 0, 1), None), thing((0, 1, 0, 0, 1), (0, 1, 0, 0, 2)),
             thing((0, 1, 0, 0, 1), (0, 2, 0, 0, 1), lot=(0, 1, 2), rest=()), thing((0, 0, 0, 0, 1)),
             thing((0, 1, 0, 0, 1), lot=(0,), rest=(("one", 1), ("one", 2))), thing(lot=(0,), rest=(("one", 1), ("one", 2))),
+            thing((0, 1, 0, 0, 1), (1, 1, 0, 0, 1)), thing((0, 1, 0, 0, 1), (0, 2, 0, 0, 1)), thing((0, 1, 0, 0, 1), lot=(1, 0)),
+            (("one", 0), ("one", 1), ("stuck", (2, 3), ((2, 3, 0, 0, 1),))), (("stuck", (-1, 0), ((-1, 0, 0, 0, 1),)), ("one", 1)),
+            (("stuck", (0, 10 ** 30), ((0, 10 ** 30, 0, 0, 1),)), ("one", 1), ("one", 2)), thing((0, 1, 0, 0, 1), lot=(0, 0, 1)),
         )
         three = thing((0, 1, 0, 1, 1), (0, 2, 0, 1, 1), lot=(0, 1, 2), rest=())
         self.assert_good(3, 6, 2, "others", three)

@@ -431,6 +431,19 @@ class PartingRightTest(unittest.TestCase):
         ):
             self.assertIs(parting_right(*pair, paper), due)
 
+    def test_other_words(self):
+        # What is right under one word is not right under another one.
+        webs = (ring_web(1), ring_web(2))
+        lengths = (made_web(2, 3, 2, "all", ((0, 1, 0, 0, 1),)), made_web(2, 3, 2, "all", ((0, 1, 0, 0, 2),)))
+        for pair, paper in (
+            (webs, ("height", (0, 1, 2), 2, (0, 0, 0))), (webs, ("ring", (0, 1, 2))), (lengths, ("stuck", (0, 1))),
+            (lengths, ("coat", (0, 1), 0)),
+        ):
+            self.assertIs(parting_right(*pair, paper), True)
+            for word in ("lot", "stuck", "coat", "height", "ring", "free", "one", "own", "", "Ring", None, 0, ("ring",)):
+                if word != paper[0]:
+                    self.assertIs(parting_right(*pair, (word, *paper[1:])), False, (word, paper))
+
     def test_own(self):
         one = made_web(3, 5, 2, "own", ((0, 1, 0, 0, 1), (0, 1, 0, 1, 1)))
         other = made_web(3, 5, 2, "own", ((0, 1, 0, 0, 1), (0, 2, 0, 1, 1)))

@@ -126,6 +126,19 @@ class NormalRunTest(unittest.TestCase):
                 patches = [tuple(sorted((0, *places[at:at + k - 1]))) for at in range(0, n - 1, k - 1)]
                 self.assert_run(made_patches(n, k, tuple((corners, 1) for corners in patches)))
 
+    def test_last_patch_that_keeps_places(self):
+        # Just enough patches to keep all places, of which the last one has some places besides.
+        rng = random.Random(226)
+        for k, n in ((4, 5), (4, 8), (4, 11), (4, 6), (4, 9), (3, 4), (3, 6), (3, 10)):
+            for _ in range(40):
+                places = rng.sample(range(1, n), n - 1)
+                patches = []
+                for at in range(0, n - 1, k - 1):
+                    kept = places[at:at + k - 1]
+                    more = rng.sample([place for place in places if place not in kept], k - 1 - len(kept))
+                    patches.append(tuple(sorted((0, *kept, *more))))
+                self.assert_run(bagged(n, k, tuple(patches)))
+
     def test_random_bags(self):
         rng = random.Random(224)
         for _ in range(400):
